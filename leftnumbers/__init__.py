@@ -1,0 +1,1 @@
+"""Numbers whose figures go on without end to the left."""
