@@ -52,6 +52,7 @@ def exponent_of(p, one):
 
 
 def alike(p, one, other, e):
-    # The exponents are compared, not p to the power e: e may have sixty figures.
-    difference = minus_fraction(one, other)
-    return difference[0] == 0 or exponent_of(p, difference) >= e
+    # The exponents are compared, not p to the power e: e may have sixty figures. And the difference needs no
+    # lowest terms for its exponent, so that left numbers with thousands of places are quickly held against it.
+    top = one[0] * other[1] - other[0] * one[1]
+    return top == 0 or exponent(p, top) - exponent(p, one[1]) - exponent(p, other[1]) >= e

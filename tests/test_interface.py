@@ -3,7 +3,7 @@
 import inspect
 import unittest
 
-from leftnumbers import fractions, primes
+from leftnumbers import fractions, lefts, near, primes, sums, texts
 
 SIGNATURES = {
     primes: {
@@ -21,6 +21,34 @@ SIGNATURES = {
         "over_fraction": "(one, other)",
         "exponent_of": "(p, one)",
         "alike": "(p, one, other, e)",
+    },
+    lefts: {
+        "left_number": "(p, least, figures)",
+        "is_left": "(thing)",
+        "end_of": "(one)",
+        "known_of": "(one)",
+        "unit_of": "(one)",
+        "of_whole": "(p, least, number, many)",
+        "amount_of": "(one)",
+        "begins_fraction": "(one, part)",
+    },
+    texts: {
+        "show_left": "(one)",
+        "read_left": "(text)",
+    },
+    near: {
+        "figure_at": "(one, place)",
+        "begins_with": "(one, other)",
+        "parted_at": "(one, other)",
+        "cut_at": "(one, place)",
+        "common_of": "(one, other)",
+        "moved_by": "(one, far)",
+    },
+    sums: {
+        "plus": "(one, other)",
+        "minus": "(one, other)",
+        "opposite": "(one)",
+        "sum_doubt": "(one, other)",
     },
 }
 

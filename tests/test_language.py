@@ -23,6 +23,12 @@ WORDS = re.compile(
     r"\b(type|typing|typing_extensions|enum|Enum|IntEnum|StrEnum|Flag|IntFlag|Generic|Protocol|ABC|ABCMeta|"
     r"namedtuple|NamedTuple|TypedDict|TYPE_CHECKING|abstractmethod)\b|dataclass|overload|contextmanager"
 )
+NOT_USED = set(
+    "register mro elements open input version_info with_traceback add_note attrgetter breakpoint builtins compile "
+    "copyright credits delattr dir eval exec exit gc getattr globals hasattr help id importlib license locals "
+    "methodcaller os quit setattr super type vars sys format format_map chr print".split()
+)
+WALKERS = set("list tuple dict sorted sum any all enumerate zip min max".split())
 STATEMENTS = (
     ast.Assign, ast.AugAssign, ast.AnnAssign, ast.If, ast.While, ast.For, ast.Return, ast.Break, ast.Continue,
     ast.Pass, ast.Raise, ast.Try, ast.Expr, ast.FunctionDef, ast.ClassDef, ast.ImportFrom,
@@ -69,6 +75,46 @@ class Language(unittest.TestCase):
             self.assertRegex(node.module, r"^leftnumbers\.[a-z0-9_]+$", name)
             self.assertEqual((node.level, node.col_offset), (0, 0), name)
             self.assertNotIn("*", [alias.name for alias in node.names], name)
+
+    def test_imported_names_are_defined_where_they_are_drawn_from(self):
+        defined = {name[:-3]: {node.name for node in tree.body if hasattr(node, "name")} for name, tree in trees()}
+        for name, node in nodes(ast.ImportFrom):
+            for alias in node.names:
+                self.assertIn(alias.name, defined[node.module.partition(".")[2]], (name, node.lineno))
+
+    def test_no_two_files_draw_from_one_another(self):
+        drawn = {name[:-3]: set() for name, tree in trees()}
+        for name, node in nodes(ast.ImportFrom):
+            drawn[name[:-3]].add(node.module.partition(".")[2])
+        while drawn:
+            free = [name for name in drawn if not drawn[name] & set(drawn)]
+            self.assertTrue(free, drawn)
+            drawn = {name: drawn[name] for name in drawn if name not in free}
+
+    def test_locals_are_not_called_like_imports_classes_or_functions(self):
+        for file, tree in trees():
+            top = {node.name for node in tree.body if hasattr(node, "name")}
+            top |= {alias.asname or alias.name for node in tree.body if isinstance(node, ast.ImportFrom)
+                    for alias in node.names}
+            for name, bound, node in bound_names():
+                if name == file and isinstance(node, (ast.Name, ast.arg)):
+                    self.assertNotIn(bound, top, (file, bound))
+
+    def test_names_that_are_not_used(self):
+        for name, node in nodes((ast.Name, ast.Attribute, ast.arg, ast.FunctionDef, ast.ClassDef)):
+            told = next(getattr(node, key) for key in ("id", "attr", "arg", "name") if hasattr(node, key))
+            self.assertNotIn(told, NOT_USED, (name, node.lineno))
+
+    def test_walked_on_the_spot(self):
+        walked = set()
+        for name, node in nodes((ast.For, ast.comprehension, ast.Call)):
+            if not isinstance(node, ast.Call):
+                walked.add((name, ast.dump(node.iter, include_attributes=True)))
+            elif getattr(node.func, "id", "") in WALKERS:
+                walked |= {(name, ast.dump(thing, include_attributes=True)) for thing in node.args}
+        for name, node in nodes(ast.Call):
+            if getattr(node.func, "id", "") in ("zip", "enumerate", "reversed", "range"):
+                self.assertIn((name, ast.dump(node, include_attributes=True)), walked, (name, node.lineno))
 
     def test_statements_and_expressions(self):
         for name, node in nodes((ast.stmt, *LEFT_OUT)):

@@ -33,3 +33,71 @@ def great(figures, seed):
         number = (number * 6364136223846793005 + 1442695040888963407) % 18446744073709551616
         text += str(number // 65536)
     return int("1" + text[1:figures])
+
+
+def great_figures(p, many, seed):
+    """So many figures of the prime p, the first and the last not 0, the same for the same seed."""
+    number = great(2 * many + 10, seed)
+    figures = []
+    for place in range(many):
+        figures.append(number % p)
+        number //= p
+    figures[0] = figures[0] or 1
+    figures[-1] = figures[-1] or 1
+    return tuple(figures)
+
+
+def every_left(p, leasts, most):
+    """Every left number of p with one of these least places and at most so many known figures."""
+    rows = [()]
+    for many in range(most):
+        rows += [row + (figure,) for row in rows if len(row) == many for figure in range(p)]
+    return [(p, least, row) for least in leasts for row in rows if not row or row[0] != 0]
+
+
+def amount(one):
+    p, least, figures = one
+    return sum((Fraction(p) ** (least + k) * figure for k, figure in enumerate(figures)), Fraction(0))
+
+
+def times_in(p, part):
+    """How often p divides a fraction that isn't nought."""
+    times = 0
+    top, bottom = part.numerator, part.denominator
+    while top % p == 0:
+        top //= p
+        times += 1
+    while bottom % p == 0:
+        bottom //= p
+        times -= 1
+    return times
+
+
+def begins(part, one):
+    """Whether a fraction begins with a left number, straight from the document's words."""
+    rest = part - amount(one)
+    return rest == 0 or times_in(one[0], rest) >= one[1] + len(one[2])
+
+
+def left_of(p, part, end):
+    """The one left number with that end with which a fraction begins."""
+    times = times_in(p, part) if part else end
+    if times >= end:
+        return (p, end, ())
+    unit = part / Fraction(p) ** times
+    power = p ** (end - times)
+    number = unit.numerator * pow(unit.denominator, -1, power) % power
+    figures = []
+    for place in range(times, end):
+        figures.append(number % p)
+        number //= p
+    return (p, times, tuple(figures))
+
+
+def parts_of(one):
+    """Some fractions that begin with a left number: those that lie at it, and on either side."""
+    p, least, figures = one
+    power = Fraction(p) ** (least + len(figures))
+    shifts = [Fraction(0), Fraction(1), Fraction(-1), Fraction(p - 1), Fraction(p), Fraction(1, p + 1),
+              Fraction(-3 * p, 2 * p + 1), Fraction(p * p + 1, p * p - 1)]
+    return [amount(one) + power * shift for shift in shifts]
