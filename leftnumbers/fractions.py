@@ -1,7 +1,7 @@
 """Fractions: tuples (top, bottom) in lowest terms, the bottom from 1 on."""
 
 from leftnumbers.errors import NoFraction
-from leftnumbers.primes import exponent, is_whole
+from leftnumbers.primes import exponent, is_whole, power_of
 
 
 def common_divisor(one, other):
@@ -49,6 +49,10 @@ def over_fraction(one, other):
 
 def exponent_of(p, one):
     return exponent(p, one[0]) - exponent(p, one[1])
+
+
+def without_prime(p, one):
+    return (one[0] // power_of(p, exponent(p, one[0])), one[1] // power_of(p, exponent(p, one[1])))
 
 
 def alike(p, one, other, e):

@@ -52,12 +52,15 @@ def unit_of(one):
     return unit
 
 
-def first_figures(p, number, many):
-    # Rounding down leaves a rest from 0 on, so numbers below 0 need no other way.
+def first_figures(p, top, bottom, many):
+    # What p doesn't divide, taken p - 1 times as a factor, leaves 1: so p - 2 times is what brings it back to 1.
+    back = power_of(bottom % p, p - 2) % p
     figures = []
     while len(figures) < many:
-        figures.append(number % p)
-        number = number // p
+        # Rests are from 0 on, so tops below 0 need no other way.
+        figure = top * back % p
+        figures.append(figure)
+        top = (top - figure * bottom) // p
     return figures
 
 
@@ -67,7 +70,7 @@ def of_whole(p, least, number, many):
         return left_number(p, least + many, [])
     noughts = min(exponent(p, number), many)
     rest = number // power_of(p, noughts)
-    return left_number(p, least + noughts, first_figures(p, rest, many - noughts))
+    return left_number(p, least + noughts, first_figures(p, rest, 1, many - noughts))
 
 
 def amount_of(one):

@@ -3,7 +3,7 @@
 import inspect
 import unittest
 
-from leftnumbers import fractions, lefts, near, primes, sums, texts
+from leftnumbers import fractions, lefts, near, powers, primes, products, quotients, seen, sums, texts
 
 SIGNATURES = {
     primes: {
@@ -49,6 +49,23 @@ SIGNATURES = {
         "minus": "(one, other)",
         "opposite": "(one)",
         "sum_doubt": "(one, other)",
+    },
+    products: {
+        "multiplied": "(one, other)",
+        "scaled": "(one, part)",
+        "product_doubt": "(one, other)",
+    },
+    quotients: {
+        "divided": "(one, other)",
+        "quotient_doubt": "(one, other)",
+    },
+    powers: {
+        "raised": "(one, n)",
+        "power_doubt": "(one, n)",
+    },
+    seen: {
+        "seen_left": "(p, part, place)",
+        "size_of": "(p, part)",
     },
 }
 

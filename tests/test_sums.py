@@ -4,27 +4,14 @@ from leftnumbers.errors import LeftError, Unlike
 from leftnumbers.lefts import begins_fraction, is_left
 from leftnumbers.near import begins_with, parted_at
 from leftnumbers.sums import minus, opposite, plus, sum_doubt
-from things import amount, every_left, great_figures, left_of, parts_of
+from things import FAR, UNLIKE, amount, check_pairs, end, every_left, great_figures, left_of, long_ones, parts_of
 
-FAR = 10 ** 30
 SMALL = every_left(2, range(-2, 3), 3) + every_left(3, range(-1, 2), 2) + every_left(7, (-1, 0), 1)
 PAIRS = [(one, other) for one in SMALL for other in SMALL if one[0] == other[0]]
-UNLIKE = (((7, 0, ()), (5, 0, ())), ((2, 0, (1,)), (3, 0, (1,))), ((2, FAR, (1, 1)), (97, -FAR, (5,))))
-
-
-def end(one):
-    return one[1] + len(one[2])
 
 
 def lesser_end(one, other):
     return min(end(one), end(other))
-
-
-def long_ones(p):
-    """Up to 1,500 figures, some with noughts and greatest figures in long rows, at one place and near it."""
-    rows = [great_figures(p, 1500, p), great_figures(p, 1500, p + 1), great_figures(p, 700, p + 2),
-            (p - 1,) * 1500, (1,) + (0,) * 1499, (1,) + (p - 1,) * 800, ()]
-    return [(p, least, row) for least, row in zip((0, 3, 700, 0, 1, -100, 900), rows)]
 
 
 class Plus(unittest.TestCase):
@@ -192,13 +179,7 @@ class Opposite(unittest.TestCase):
 class SumDoubt(unittest.TestCase):
     def check(self, one, other):
         told = sum_doubt(one, other)
-        self.assertEqual([type(told)] + [type(pair) for pair in told], [tuple] * 3)
-        self.assertEqual([len(told)] + [len(pair) for pair in told], [2] * 3)
-        for pair in told:
-            for longer, short in zip(pair, (one, other)):
-                self.assertIs(is_left(longer), True)
-                self.assertIs(begins_with(longer, short), True)
-                self.assertLessEqual(end(longer), end(short) + 4)
+        check_pairs(self, told, (one, other))
         self.assertEqual(parted_at(plus(*told[0]), plus(*told[1])), end(plus(one, other)))
         self.assertEqual(sum_doubt(one, other), told)
 

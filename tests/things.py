@@ -3,6 +3,12 @@
 from decimal import Decimal
 from fractions import Fraction
 
+from leftnumbers.lefts import is_left
+from leftnumbers.near import begins_with
+
+FAR = 10 ** 30
+UNLIKE = (((7, 0, ()), (5, 0, ())), ((2, 0, (1,)), (3, 0, (1,))), ((2, FAR, (1, 1)), (97, -FAR, (5,))))
+
 
 class Odd:
     """Neither compares nor shows itself: nothing may be asked of it but its kind."""
@@ -55,6 +61,30 @@ def every_left(p, leasts, most):
     return [(p, least, row) for least in leasts for row in rows if not row or row[0] != 0]
 
 
+def long_ones(p):
+    """Up to 1,500 figures, some with noughts and greatest figures in long rows, at one place and near it."""
+    rows = [great_figures(p, 1500, p), great_figures(p, 1500, p + 1), great_figures(p, 700, p + 2),
+            (p - 1,) * 1500, (1,) + (0,) * 1499, (1,) + (p - 1,) * 800, ()]
+    return [(p, least, row) for least, row in zip((0, 3, 700, 0, 1, -100, 900), rows)]
+
+
+def end(one):
+    return one[1] + len(one[2])
+
+
+def figures_of(p, number, many):
+    """The first so many figures of a whole number, below 0 too."""
+    figures = []
+    for place in range(many):
+        figures.append(number % p)
+        number //= p
+    return tuple(figures)
+
+
+def unit(one):
+    return sum(figure * one[0] ** k for k, figure in enumerate(one[2]))
+
+
 def amount(one):
     p, least, figures = one
     return sum((Fraction(p) ** (least + k) * figure for k, figure in enumerate(figures)), Fraction(0))
@@ -79,6 +109,20 @@ def begins(part, one):
     return rest == 0 or times_in(one[0], rest) >= one[1] + len(one[2])
 
 
+def as_tuple(part):
+    return (part.numerator, part.denominator)
+
+
+def no_fractions():
+    """Things that are no fractions as the document tells them, made anew for each asker."""
+    things = no_whole_numbers()
+    return (
+        things + [(thing, 1) for thing in things] + [(1, thing) for thing in things]
+        + [(2, 4), (-3, 9), (0, 2), (0, 0), (1, 0), (1, -2), (-1, -1), (0, -1), (1, 2, 1), (3,), [1, 2], [3, 1]]
+        + [0, 1, -3, "1/2", "(1, 2)", ((1, 2),), ((1, 2), 1)]
+    )
+
+
 def left_of(p, part, end):
     """The one left number with that end with which a fraction begins."""
     times = times_in(p, part) if part else end
@@ -87,11 +131,7 @@ def left_of(p, part, end):
     unit = part / Fraction(p) ** times
     power = p ** (end - times)
     number = unit.numerator * pow(unit.denominator, -1, power) % power
-    figures = []
-    for place in range(times, end):
-        figures.append(number % p)
-        number //= p
-    return (p, times, tuple(figures))
+    return (p, times, figures_of(p, number, end - times))
 
 
 def parts_of(one):
@@ -101,3 +141,19 @@ def parts_of(one):
     shifts = [Fraction(0), Fraction(1), Fraction(-1), Fraction(p - 1), Fraction(p), Fraction(1, p + 1),
               Fraction(-3 * p, 2 * p + 1), Fraction(p * p + 1, p * p - 1)]
     return [amount(one) + power * shift for shift in shifts]
+
+
+def check_begun(case, longer, short):
+    """What a doubt tells begins with what was handed in, and is at most four figures longer."""
+    case.assertIs(is_left(longer), True)
+    case.assertIs(begins_with(longer, short), True)
+    case.assertLessEqual(end(longer), end(short) + 4)
+
+
+def check_pairs(case, told, handed):
+    """A doubt of two left numbers is two pairs, in the order in which the two were handed in."""
+    case.assertEqual([type(told)] + [type(pair) for pair in told], [tuple] * 3)
+    case.assertEqual([len(told)] + [len(pair) for pair in told], [2] * 3)
+    for pair in told:
+        for longer, short in zip(pair, handed):
+            check_begun(case, longer, short)
