@@ -45,16 +45,24 @@ def known_of(one):
     return len(one[2])
 
 
+def number_of(p, figures):
+    number = 0
+    for figure in reversed(figures):
+        number = number * p + figure
+    return number
+
+
 def unit_of(one):
-    unit = 0
-    for figure in reversed(one[2]):
-        unit = unit * one[0] + figure
-    return unit
+    return number_of(one[0], one[2])
+
+
+def back_of(p, number):
+    # What p doesn't divide, taken p - 1 times as a factor, leaves 1: so p - 2 times is what brings it back to 1.
+    return power_of(number % p, p - 2) % p
 
 
 def first_figures(p, top, bottom, many):
-    # What p doesn't divide, taken p - 1 times as a factor, leaves 1: so p - 2 times is what brings it back to 1.
-    back = power_of(bottom % p, p - 2) % p
+    back = back_of(p, bottom)
     figures = []
     while len(figures) < many:
         # Rests are from 0 on, so tops below 0 need no other way.

@@ -3,7 +3,9 @@
 import inspect
 import unittest
 
-from leftnumbers import fractions, lefts, near, powers, primes, products, quotients, seen, sums, texts
+from leftnumbers import (
+    found, fractions, lefts, near, polys, powers, primes, products, quotients, roots, seen, stems, sums, texts,
+)
 
 SIGNATURES = {
     primes: {
@@ -66,6 +68,22 @@ SIGNATURES = {
     seen: {
         "seen_left": "(p, part, place)",
         "size_of": "(p, part)",
+    },
+    found: {
+        "found_again": "(one, size)",
+    },
+    polys: {
+        "is_poly": "(thing)",
+        "worth_at": "(poly, part)",
+        "slope_of": "(poly)",
+        "product_of": "(poly, other)",
+    },
+    stems: {
+        "seen_from": "(p, poly, stem)",
+    },
+    roots: {
+        "tree_of": "(p, poly, depth)",
+        "root_of": "(p, poly, stem, place)",
     },
 }
 

@@ -123,6 +123,27 @@ def no_fractions():
     )
 
 
+def no_polys():
+    """Things that are no polynomials, made anew for each asker."""
+    things = no_whole_numbers()
+    return (
+        things + [[thing, 1] for thing in things] + [[0, 1, thing] for thing in things]
+        + [[1], [0, 0], [1, 0], [1, 2, 0], [1] * 10, [0] * 9, [1] * 8 + [0], (1, 2), (0, 1, 1), "12", {0: 1, 1: 1}]
+        + [0, 1, -3, 10 ** 60, [[1, 2]], [[1], [2]], ([1, 2],)]
+    )
+
+
+def worth(poly, x):
+    return sum(number * x ** k for k, number in enumerate(poly))
+
+
+def numbers_behind(p, stem):
+    """Some whole numbers that begin with a stem, on either side of 0."""
+    first = sum(figure * p ** k for k, figure in enumerate(stem))
+    shifts = [0, 1, -1, 2, -2, p - 1, p, -p, p * p + 1, -p ** 3, 5 * p ** 7 + 1, great(40, p), -great(41, p)]
+    return [first + p ** len(stem) * shift for shift in sorted(set(shifts))]
+
+
 def left_of(p, part, end):
     """The one left number with that end with which a fraction begins."""
     times = times_in(p, part) if part else end
